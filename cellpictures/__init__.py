@@ -1,0 +1,1 @@
+"""Cells that choose their pictures by the kinds around them."""

@@ -1,0 +1,73 @@
+"""The interface's opening lines: names, arguments, the files that define them; and the form of the package's files."""
+
+import ast
+import inspect
+import pathlib
+import unittest
+
+import cellpictures
+from cellpictures import maps, ways
+
+FOLDER = pathlib.Path(cellpictures.__file__).parent
+
+LINES = (
+    (ways, "behind", "(way, first_way)"),
+    (ways, "inverse", "(way)"),
+    (ways, "place_to", "(way, place)"),
+    (ways, "side_to", "(way, side)"),
+    (maps, "turned_map", "(rows, way)"),
+    (maps, "turned_ends", "(ends, way)"),
+    (maps, "window", "(rows, row, column, *, ends=('open', 'open'))"),
+)
+
+
+def files():
+    return sorted(FOLDER.rglob("*.py"))
+
+
+def imports(path):
+    nodes = ast.walk(ast.parse(path.read_text()))
+    return [node for node in nodes if isinstance(node, (ast.Import, ast.ImportFrom))]
+
+
+class InterfaceTest(unittest.TestCase):
+    def test_names_and_arguments(self):
+        for module, name, line in LINES:
+            with self.subTest(name=name):
+                self.assertEqual(str(inspect.signature(getattr(module, name))), line)
+
+    def test_each_is_defined_in_its_file(self):
+        for module, name, _ in LINES:
+            with self.subTest(name=name):
+                self.assertEqual(getattr(module, name).__module__, module.__name__)
+
+    def test_init_imports_nothing(self):
+        self.assertEqual(imports(FOLDER / "__init__.py"), [])
+
+
+class FormTest(unittest.TestCase):
+    def test_imports_are_from_the_package(self):
+        for path in files():
+            for node in imports(path):
+                with self.subTest(path=path.name, line=node.lineno):
+                    self.assertIsInstance(node, ast.ImportFrom)
+                    self.assertEqual((node.level, node.module.split(".")[0]), (0, "cellpictures"))
+
+    def test_sizes_and_characters(self):
+        for path in files():
+            lines = path.read_text().split("\n")
+            with self.subTest(path=path.name):
+                self.assertLessEqual(len(lines), 400)
+                self.assertLessEqual(max(len(line) for line in lines), 120)
+                self.assertTrue(all(" " <= sign <= "~" for line in lines for sign in line))
+
+    def test_functions_are_short(self):
+        for path in files():
+            for node in ast.walk(ast.parse(path.read_text())):
+                if isinstance(node, ast.FunctionDef):
+                    with self.subTest(path=path.name, function=node.name):
+                        self.assertLessEqual(node.end_lineno - node.lineno + 1, 40)
+
+
+if __name__ == "__main__":
+    unittest.main()
