@@ -1,6 +1,6 @@
 """What the modules ask of their arguments."""
 
-from cellpictures.errors import InvalidCell, InvalidEnds, InvalidMap, InvalidNumber, InvalidWay
+from cellpictures.errors import InvalidCell, InvalidEnds, InvalidMap, InvalidNumber, InvalidPicture, InvalidWay
 
 
 def is_count(thing):
@@ -14,10 +14,31 @@ def is_count_below(thing, limit):
     return is_count(thing) and thing < limit
 
 
+def is_list(thing):
+    """Tell whether a thing may stand where a list is wanted."""
+    return isinstance(thing, (list, tuple))
+
+
+def is_way(thing):
+    """Tell whether a thing is a way."""
+    return is_count_below(thing, 8)
+
+
 def check_way(way):
     """Raise InvalidWay if a thing is not a way."""
-    if not is_count_below(way, 8):
+    if not is_way(way):
         raise InvalidWay(way)
+
+
+def is_picture(thing):
+    """Tell whether a thing is a tuple of a name and a way."""
+    return isinstance(thing, tuple) and len(thing) == 2 and isinstance(thing[0], str) and is_way(thing[1])
+
+
+def check_picture(picture):
+    """Raise InvalidPicture if a thing is not a picture."""
+    if not is_picture(picture):
+        raise InvalidPicture(picture)
 
 
 def check_number(number, limit):
@@ -61,4 +82,11 @@ def is_map(thing):
 def check_map(rows):
     """Raise InvalidMap if a thing is not a map."""
     if not is_map(rows):
+        raise InvalidMap(rows)
+
+
+def check_map_below(rows, limit):
+    """Raise InvalidMap if a thing is not a map with kinds from 0 to limit less 1."""
+    check_map(rows)
+    if max([max(row) for row in rows]) >= limit:
         raise InvalidMap(rows)

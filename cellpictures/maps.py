@@ -51,11 +51,15 @@ def kind_at(rows, row, column, ends):
     return rows[real_row][real_column]
 
 
+def kinds_around(rows, row, column, ends):
+    """Return the tuple of the eight kinds around a cell, None where there is nothing."""
+    return tuple([kind_at(rows, row + below, column + right, ends) for below, right in STEPS])
+
+
 def window(rows, row, column, *, ends=("open", "open")):
     """Return the kind of a cell and the tuple of the eight kinds around it, None where there is nothing."""
     check_map(rows)
     check_cell(row, len(rows))
     check_cell(column, len(rows[0]))
     check_ends(ends)
-    around = [kind_at(rows, row + below, column + right, ends) for below, right in STEPS]
-    return rows[row][column], tuple(around)
+    return rows[row][column], kinds_around(rows, row, column, ends)

@@ -6,7 +6,7 @@ import pathlib
 import unittest
 
 import cellpictures
-from cellpictures import maps, ways
+from cellpictures import books, drawing, maps, rules, ways
 
 FOLDER = pathlib.Path(cellpictures.__file__).parent
 
@@ -18,6 +18,22 @@ LINES = (
     (maps, "turned_map", "(rows, way)"),
     (maps, "turned_ends", "(ends, way)"),
     (maps, "window", "(rows, row, column, *, ends=('open', 'open'))"),
+    (rules, "Rule", "(middle, around, picture, *, ways=(0,))"),
+    (books, "Book", "(kinds, rules, lasts, *, symmetries=None)"),
+    (drawing, "draw", "(book, rows, *, ends=('open', 'open'))"),
+    (drawing, "chosen", "(book, rows, row, column, *, ends=('open', 'open'))"),
+)
+
+METHODS = (
+    (rules.Rule, "turned", "(self, way)"),
+    (books.Book, "looks", "(self, picture)"),
+    (books.Book, "turned", "(self, way)"),
+    (books.Book, "without", "(self, number)"),
+)
+
+PROPERTIES = (
+    (rules.Rule, ("middle", "around", "picture", "ways")),
+    (books.Book, ("kinds", "rules", "lasts", "symmetries")),
 )
 
 
@@ -40,6 +56,19 @@ class InterfaceTest(unittest.TestCase):
         for module, name, _ in LINES:
             with self.subTest(name=name):
                 self.assertEqual(getattr(module, name).__module__, module.__name__)
+
+    def test_methods_are_defined_in_their_class(self):
+        for owner, name, line in METHODS:
+            with self.subTest(owner=owner.__name__, name=name):
+                self.assertEqual(str(inspect.signature(vars(owner)[name])), line)
+
+    def test_properties_and_operators_are_defined_in_their_class(self):
+        for owner, names in PROPERTIES:
+            for name in names:
+                with self.subTest(owner=owner.__name__, name=name):
+                    self.assertIsInstance(vars(owner)[name], property)
+            self.assertIn("__eq__", vars(owner))
+        self.assertIn("__add__", vars(books.Book))
 
     def test_init_imports_nothing(self):
         self.assertEqual(imports(FOLDER / "__init__.py"), [])

@@ -5,33 +5,14 @@ import unittest
 from cellpictures.errors import InvalidCell, InvalidEnds, InvalidMap, InvalidWay
 from cellpictures.maps import turned_ends, turned_map, window
 from cellpictures.ways import behind, inverse, place_to
-from tests.helping import (ALL_ENDS, GREAT, Wrong, bad_ends, bad_maps, expect_refusals, great_map, things_outside,
-                           turned)
+from tests.helping import (ALL_ENDS, GREAT, Wrong, bad_ends, bad_maps, cells, expect_refusals, great_map,
+                           things_outside, turned, window_of)
 
 MAPS = (
     ((0,),), ((GREAT,),), ((0, 1),), ((0, 1, 2),), ((0,), (1,)), ((3,), (1,), (2,), (0,)),
     ((0, 1), (2, 3)), ((0, 0), (0, 1)), ((0, 1, 2), (3, 4, 5)), ((0, 1), (2, 3), (4, 5)),
     ((0, 1, 2), (3, 4, 5), (6, 7, 8)), ((1, 0, 2, 1), (0, 0, 1, 2), (2, 1, 1, 0)), ((GREAT, 0), (GREAT + 1, 7)),
 )
-
-
-def laid_out(rows, ends):
-    """The rows with what is beyond them around, one cell wide."""
-    across, down = ends
-    wide = []
-    for row in rows:
-        wide.append([row[-1], *row, row[0]] if across == "wrap" else [None, *row, None])
-    nothing = [None] * len(wide[0])
-    return [wide[-1], *wide, wide[0]] if down == "wrap" else [nothing, *wide, nothing]
-
-
-def expected_window(rows, row, column, ends):
-    above, here, below = [line[column:column + 3] for line in laid_out(rows, ends)[row:row + 3]]
-    return here[1], (above[0], above[1], above[2], here[2], below[2], below[1], below[0], here[0])
-
-
-def cells(rows):
-    return [(row, column) for row in range(len(rows)) for column in range(len(rows[0]))]
 
 
 def cell_brought(rows, cell, way):
@@ -116,14 +97,14 @@ class WindowTest(unittest.TestCase):
                 for row, column in cells(rows):
                     with self.subTest(rows=rows, row=row, column=column, ends=ends):
                         told = window(rows, row, column, ends=ends)
-                        self.assertEqual(told, expected_window(rows, row, column, ends))
+                        self.assertEqual(told, window_of(rows, row, column, ends))
                         self.assertEqual((type(told), type(told[1])), (tuple, tuple))
 
     def test_ends_not_passed_are_open(self):
         for rows in MAPS:
             for row, column in cells(rows):
                 told = window(rows, row, column)
-                self.assertEqual(told, expected_window(rows, row, column, ("open", "open")))
+                self.assertEqual(told, window_of(rows, row, column, ("open", "open")))
 
     def test_by_hand(self):
         rows = ((0, 1, 2), (3, 4, 5), (6, 7, 8))
@@ -174,7 +155,7 @@ class WindowTest(unittest.TestCase):
 
     def test_by_name(self):
         rows = ((0, 1, 2), (3, 4, 5))
-        expected = expected_window(rows, 1, 2, ("wrap", "open"))
+        expected = window_of(rows, 1, 2, ("wrap", "open"))
         self.assertEqual(window(rows=rows, row=1, column=2, ends=("wrap", "open")), expected)
         self.assertEqual(window(ends=("wrap", "open"), column=2, row=1, rows=rows), expected)
         self.assertEqual(window(rows, 1, column=2, ends=("wrap", "open")), expected)
