@@ -1,6 +1,7 @@
 """Books: kinds, rules in order, last pictures, and the symmetries of what the names stand for."""
 
-from cellpictures.checks import check_number, check_picture, check_way, is_count, is_list, is_picture, is_way
+from cellpictures.checks import (check_number, check_picture, check_way, is_count, is_list, is_picture, is_table,
+                                 is_way)
 from cellpictures.errors import (InvalidBook, InvalidLasts, InvalidNumber, InvalidRules, InvalidSymmetries,
                                  UnlikeBooks)
 from cellpictures.rules import Rule, brought_further
@@ -56,7 +57,7 @@ def check_symmetries(symmetries):
     """Raise InvalidSymmetries if a thing is neither None nor a dict of symmetries by names."""
     if symmetries is None:
         return
-    if not isinstance(symmetries, dict) or not all([isinstance(name, str) for name in symmetries]):
+    if not is_table(symmetries):
         raise InvalidSymmetries(None)
     for name in sorted(symmetries):
         if not is_symmetry(symmetries[name]):

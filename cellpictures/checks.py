@@ -19,6 +19,11 @@ def is_list(thing):
     return isinstance(thing, (list, tuple))
 
 
+def is_table(thing):
+    """Tell whether a thing is a dict with strings as keys."""
+    return isinstance(thing, dict) and all([isinstance(name, str) for name in thing])
+
+
 def is_way(thing):
     """Tell whether a thing is a way."""
     return is_count_below(thing, 8)
@@ -64,24 +69,24 @@ def check_ends(ends):
         raise InvalidEnds(ends)
 
 
-def is_row(thing):
-    """Tell whether a thing is a tuple of kinds, at least one."""
-    return isinstance(thing, tuple) and len(thing) > 0 and all([is_count(kind) for kind in thing])
+def is_row(thing, is_item):
+    """Tell whether a thing is a tuple of right items, at least one."""
+    return isinstance(thing, tuple) and len(thing) > 0 and all([is_item(item) for item in thing])
 
 
-def is_map(thing):
-    """Tell whether a thing is a tuple of rows of one length, at least one."""
+def is_grid(thing, is_item):
+    """Tell whether a thing is a tuple of rows of one length, at least one, with right items."""
     if not isinstance(thing, tuple) or len(thing) == 0:
         return False
     for row in thing:
-        if not is_row(row) or len(row) != len(thing[0]):
+        if not is_row(row, is_item) or len(row) != len(thing[0]):
             return False
     return True
 
 
 def check_map(rows):
     """Raise InvalidMap if a thing is not a map."""
-    if not is_map(rows):
+    if not is_grid(rows, is_count):
         raise InvalidMap(rows)
 
 

@@ -6,7 +6,7 @@ import pathlib
 import unittest
 
 import cellpictures
-from cellpictures import books, drawing, maps, rules, ways
+from cellpictures import back, books, drawing, live, maps, questions, rules, sides, ways
 
 FOLDER = pathlib.Path(cellpictures.__file__).parent
 
@@ -22,6 +22,26 @@ LINES = (
     (books, "Book", "(kinds, rules, lasts, *, symmetries=None)"),
     (drawing, "draw", "(book, rows, *, ends=('open', 'open'))"),
     (drawing, "chosen", "(book, rows, row, column, *, ends=('open', 'open'))"),
+    (questions, "missing", "(book, *, ends=('open', 'open'))"),
+    (questions, "pictures", "(book, *, ends=('open', 'open'))"),
+    (questions, "unused_rules", "(book, *, ends=('open', 'open'))"),
+    (questions, "unused_lasts", "(book, *, ends=('open', 'open'))"),
+    (questions, "needless", "(book, *, ends=('open', 'open'))"),
+    (questions, "parting", "(book, other, *, ends=('open', 'open'))"),
+    (questions, "matters", "(book, *, ends=('open', 'open'))"),
+    (questions, "kept_ways", "(book, *, ends=('open', 'open'))"),
+    (questions, "unkept", "(book, way, *, ends=('open', 'open'))"),
+    (questions, "frames", "(book)"),
+    (questions, "unframed", "(book, kind)"),
+    (sides, "ties", "(book, *, ends=('open', 'open'))"),
+    (sides, "tie_map", "(book, one, second, *, ends=('open', 'open'))"),
+    (sides, "classes", "(book, *, ends=('open', 'open'))"),
+    (sides, "misfit", "(book, signs, *, ends=('open', 'open'))"),
+    (sides, "corner_misfit", "(book, signs, *, ends=('open', 'open'))"),
+    (back, "count_maps", "(book, drawing, *, ends=('open', 'open'))"),
+    (back, "first_map", "(book, drawing, *, ends=('open', 'open'))"),
+    (back, "sure_kinds", "(book, drawing, *, ends=('open', 'open'))"),
+    (live, "Live", "(book, rows, *, ends=('open', 'open'))"),
 )
 
 METHODS = (
@@ -29,11 +49,15 @@ METHODS = (
     (books.Book, "looks", "(self, picture)"),
     (books.Book, "turned", "(self, way)"),
     (books.Book, "without", "(self, number)"),
+    (live.Live, "change", "(self, row, column, kind)"),
+    (live.Live, "back", "(self)"),
+    (live.Live, "__len__", "(self)"),
 )
 
 PROPERTIES = (
     (rules.Rule, ("middle", "around", "picture", "ways")),
     (books.Book, ("kinds", "rules", "lasts", "symmetries")),
+    (live.Live, ("book", "rows", "ends", "drawing")),
 )
 
 
@@ -67,7 +91,8 @@ class InterfaceTest(unittest.TestCase):
             for name in names:
                 with self.subTest(owner=owner.__name__, name=name):
                     self.assertIsInstance(vars(owner)[name], property)
-            self.assertIn("__eq__", vars(owner))
+        self.assertIn("__eq__", vars(rules.Rule))
+        self.assertIn("__eq__", vars(books.Book))
         self.assertIn("__add__", vars(books.Book))
 
     def test_init_imports_nothing(self):
