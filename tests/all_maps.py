@@ -72,11 +72,6 @@ class Drawer:
                      for line in windows_in(rows, self.ends))
 
 
-def first_map_with(kinds, sizes, shows):
-    """The least map that shows something, or None."""
-    return next((rows for rows in maps_of(kinds, sizes) if shows(rows)), None)
-
-
 def turned_drawing(symmetries, lines, way):
     """A drawing turned, with its pictures turned and told."""
     pictures = [[None if item is None else told_by(symmetries, (item[0], BEHIND[way][item[1]])) for item in line]
@@ -123,7 +118,8 @@ def corners_in(lines, ends):
     told = []
     for upper, lower in followed(len(lines), ends[1]):
         for left, right in followed(len(lines[0]), ends[0]):
-            four = ((lines[upper][left], 2), (lines[upper][right], 3), (lines[lower][right], 0), (lines[lower][left], 1))
+            four = ((lines[upper][left], 2), (lines[upper][right], 3),
+                    (lines[lower][right], 0), (lines[lower][left], 1))
             told.append(tuple(corner_at(picture, corner) for picture, corner in four))
     return told
 
@@ -173,7 +169,8 @@ def wires(symmetries=None):
     names = ["cross", "tee", "bend", "line", "end"]
     rules = []
     for name, places in zip(names, ends):
-        rules.append(Rule(1, [("same",) if place in places else () for place in range(8)], (name, 0), ways=(0, 1, 2, 3)))
+        around = [("same",) if place in places else () for place in range(8)]
+        rules.append(Rule(1, around, (name, 0), ways=(0, 1, 2, 3)))
     signs = {name: tuple("wire" if 2 * side + 1 in places else "" for side in range(4))
              for name, places in zip(names, ends)}
     signs.update({"dot": ("",) * 4, "none": ("",) * 4})

@@ -114,6 +114,30 @@ def bad_books():
     return [thing for thing in things() if type(thing) is not Book] + [(some_book(),), {0: some_book()}, Book, "Book"]
 
 
+def with_condition(place, condition):
+    """Conditions that all hold anywhere, but for one place."""
+    return [condition if place == number else () for number in range(8)]
+
+
+def with_sign(signs, name, number, sign):
+    """Signs with one of a name exchanged."""
+    return {**signs, name: signs[name][:number] + (sign,) + signs[name][number + 1:]}
+
+
+def bad_signs():
+    """No signs, each with the name that is told of them."""
+    told = [(thing, None) for thing in things() if type(thing) is not dict]
+    four = ("", "a", "b", "c")
+    told += [([("a", four)], None), (("a", four), None), (some_book(), None)]
+    for key in (None, 0, True, (), ("a",), (0, None)):
+        told += [({key: four}, None), ({"a": four, key: four}, None), ({key: four, "a": ()}, None)]
+    for thing in [thing for thing in things() if not (type(thing) is tuple and len(thing) == 4)] + [
+            ("a",) * 3, ("a",) * 5, ["a"] * 4, ("a", "b", "c", None), (0, 1, 2, 3), ("a", "b", "c", 0), "abcd",
+            ("a", True, "b", "c"), (("a",),) * 4, ({}, "a", "b", "c"), {"a": 0, "b": 1, "c": 2, "d": 3}, (None,) * 4]:
+        told += [({"a": thing}, "a"), ({"b": thing, "a": four}, "b"), ({"c": four[:3], "b": thing, "d": None}, "b")]
+    return told
+
+
 def great_map():
     """A map as large as those that are passed get."""
     return tuple(tuple((row * 20 + column) % 3 for column in range(20)) for row in range(10))

@@ -9,9 +9,8 @@ from cellpictures.errors import InvalidBook, InvalidDrawing, InvalidEnds
 from cellpictures.rules import Rule
 from tests.all_maps import Drawer, maps_of
 from tests.helping import (ALL_ENDS, BEHIND, GREAT, Picker, Wrong, bad_books, bad_ends, expect_refusals, is_picture,
-                           made_books, some_book, some_rule, things)
+                           made_books, some_book, some_rule, things, with_condition)
 
-ANYWHERE = ((),) * 8
 OPEN, ROUND = ("open", "open"), ("wrap", "wrap")
 UNKNOWN = "?"
 
@@ -21,10 +20,6 @@ SIZES = {
     2: ((1, 1), (1, 2), (1, 3), (1, 4), (2, 1), (3, 1), (5, 1), (8, 1), (2, 2), (2, 3), (3, 2), (3, 3), (2, 4)),
     3: ((1, 1), (1, 2), (2, 1), (4, 1), (5, 1), (2, 2), (3, 2)),
 }
-
-
-def with_condition(place, condition):
-    return [condition if place == number else () for number in range(8)]
 
 
 def is_of(picture, item):
@@ -132,6 +127,48 @@ class HeldAgainstAllMapsTest(unittest.TestCase):
                 self.assertEqual(count_maps(book, drawing, ends=ends), 1)
                 self.assertEqual(first_map(book, drawing, ends=ends), rows)
                 self.assertEqual(sure_kinds(book, drawing, ends=ends), rows)
+
+
+def columns_by_edges(edges, wraps):
+    """For each column, its kinds if it begins with 0 and changes at the edges; None if there is no such map."""
+    told = []
+    for column in zip(*edges):
+        kinds = [0]
+        for edge in column[1:]:
+            kinds.append(kinds[-1] ^ edge)
+        closes = kinds[-1] ^ column[0] == 0 if wraps else not column[0]
+        told.append(kinds if closes else None)
+    return told
+
+
+class ColumnsTest(unittest.TestCase):
+    """Drawings that tell of each cell whether it is like the one above: each column is one of two, or of none."""
+
+    BOOK = Book(2, [Rule(None, with_condition(1, ("other",)), ("edge", 0))], [("a", 0), ("a", 0)])
+
+    def check(self, edges, ends):
+        drawing = tuple(tuple(("edge" if edge else "a", 0) for edge in line) for line in edges)
+        columns = columns_by_edges(edges, ends[1] == "wrap")
+        there = None not in columns
+        self.assertEqual(count_maps(self.BOOK, drawing, ends=ends), 2 ** len(columns) if there else 0)
+        self.assertEqual(first_map(self.BOOK, drawing, ends=ends), tuple(zip(*columns)) if there else None)
+        sure = ((None,) * len(columns),) * len(edges) if there else None
+        self.assertEqual(sure_kinds(self.BOOK, drawing, ends=ends), sure)
+        return there
+
+    def test_the_greatest_drawings(self):
+        picker, seen = Picker(129), []
+        for ends in ALL_ENDS:
+            height, width = (8, 4) if ends[1] == "open" else (6, 3)
+            for number in range(24):
+                rows = picker.map(height, width, 2)
+                edges = [[above != kind for above, kind in zip(rows[row - 1], rows[row])] for row in range(height)]
+                if ends[1] == "open":
+                    edges[0] = [False] * width
+                if number % 3 == 0:
+                    edges[number // 3 % 2] = [not edge for edge in edges[number // 3 % 2]]
+                seen.append((ends, self.check(edges, ends)))
+        self.assertEqual(len(set(seen)), 8)
 
 
 class ByHandTest(unittest.TestCase):
@@ -244,7 +281,7 @@ class ArgumentsTest(unittest.TestCase):
                 self.assertEqual(question(book, drawing), question(book, drawing, ends=OPEN))
         edges = ByHandTest.EDGES
         drawing = ((("edge", 0), ("edge", 0)),)
-        self.assertEqual([count_maps(edges, drawing), first_map(edges, drawing), sure_kinds(edges, drawing)], [0, None, None])
+        self.assertEqual([question(edges, drawing) for question in self.QUESTIONS], [0, None, None])
 
     def test_by_name(self):
         book, drawing = some_book(), ((("a", 7), "?"), ("?", None))

@@ -8,11 +8,9 @@ from cellpictures.questions import missing, pictures
 from cellpictures.rules import Rule
 from cellpictures.sides import corner_misfit
 from tests.all_maps import FOUR, SEAMS, Drawer, corners_in, maps_of, pair_books, shores
-from tests.helping import (ALL_ENDS, BROUGHT, Picker, Wrong, bad_books, bad_ends, expect_error, expect_refusals,
-                           made_books, some_book)
-from tests.test_sides import bad_signs, with_condition, with_sign
+from tests.helping import (ALL_ENDS, BROUGHT, Picker, Wrong, bad_books, bad_ends, bad_signs, expect_error,
+                           expect_refusals, made_books, some_book, with_condition, with_sign)
 
-ANYWHERE = ((),) * 8
 MAPS = {1: list(maps_of(1, FOUR)), 2: list(maps_of(2, SEAMS))}
 OPEN, ROUND = ("open", "open"), ("wrap", "wrap")
 
@@ -176,7 +174,8 @@ class ArgumentsTest(unittest.TestCase):
         book, signs = shores()
         changed = with_sign(signs, "bit", 0, "sea")
         for ends in ALL_ENDS:
-            self.assertEqual(corner_misfit(ends=ends, signs=changed, book=book), corner_misfit(book, changed, ends=ends))
+            expected = least_misfit(book, changed, ends)
+            self.assertEqual(corner_misfit(ends=ends, signs=changed, book=book), expected)
         self.assertEqual(corner_misfit(book, changed), corner_misfit(book, changed, ends=OPEN))
         edge = Book(1, [Rule(0, with_condition(7, ("beyond",)), ("left", 0))], [("a", 0)])
         expect_error(self, InvalidSigns, {"name": "left"}, corner_misfit, edge, {"a": ("",) * 4})

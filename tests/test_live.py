@@ -8,8 +8,8 @@ from cellpictures.errors import InvalidBook, InvalidCell, InvalidEnds, InvalidMa
 from cellpictures.live import Live
 from cellpictures.questions import matters
 from cellpictures.rules import Rule
-from tests.helping import (ALL_ENDS, Picker, Wrong, bad_books, bad_ends, bad_maps_below, cells, drawing_of, expect_error,
-                           expect_refusals, great_map, made_books, some_book, things_outside)
+from tests.helping import (ALL_ENDS, Picker, Wrong, bad_books, bad_ends, bad_maps_below, cells, drawing_of,
+                           expect_error, expect_refusals, great_map, made_books, some_book, things_outside)
 
 OPEN, ROUND = ("open", "open"), ("wrap", "wrap")
 SIZES = ((1, 1), (1, 2), (2, 1), (1, 6), (5, 1), (2, 2), (3, 3), (4, 5))
@@ -38,7 +38,8 @@ class ChangedTest(unittest.TestCase):
     def check_state(self, live, book, rows, ends, many):
         self.assertEqual((live.book, live.rows, live.ends, len(live)), (book, rows, ends, many))
         self.assertEqual(live.drawing, drawing_of(book, rows, ends))
-        self.assertEqual({type(thing) for thing in (live.rows, live.ends, live.drawing, *live.rows, *live.drawing)}, {tuple})
+        told = (live.rows, live.ends, live.drawing, *live.rows, *live.drawing)
+        self.assertEqual({type(thing) for thing in told}, {tuple})
 
     def check_step(self, live, told, before, rows):
         expected = unlike_cells(before, live.drawing)

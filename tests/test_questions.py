@@ -7,17 +7,15 @@ from cellpictures.drawing import draw
 from cellpictures.errors import InvalidBook, InvalidEnds, UnlikeBooks
 from cellpictures.questions import missing, needless, parting, pictures, unused_lasts, unused_rules
 from cellpictures.rules import Rule
-from tests.all_maps import THREE, Drawer, first_map_with, maps_of, only_at, rare_books, some_windows
-from tests.helping import (ALL_ENDS, Wrong, bad_books, bad_ends, expect_error, expect_refusals, made_books, some_book)
+from cellpictures.searching import all_windows
+from tests.all_maps import THREE, Drawer, maps_of, only_at, rare_books, some_windows, windows_in
+from tests.helping import (ALL_ENDS, Wrong, bad_books, bad_ends, expect_error, expect_refusals, made_books, some_book,
+                           with_condition)
 
 ANYWHERE = ((),) * 8
 FAR_LEFT = [()] * 7 + [("beyond",)]
 
 MAPS = {kinds: list(maps_of(kinds, THREE)) for kinds in (1, 2, 3)}
-
-
-def with_condition(place, condition):
-    return [condition if place == number else () for number in range(8)]
 
 
 def small_books():
@@ -49,6 +47,18 @@ def least_parting(book, other, ends):
 def book_less(book, number):
     rules = [rule for place, rule in enumerate(book.rules) if place != number]
     return Book(book.kinds, rules, book.lasts, symmetries=book.symmetries)
+
+
+class WindowsTest(unittest.TestCase):
+    def test_all_windows_are_those_of_small_maps(self):
+        for kinds, many in ((1, 16), (2, 866), (3, 23016)):
+            for ends in ALL_ENDS if kinds < 3 else (("open", "open"), ("wrap", "open")):
+                told = all_windows(kinds, ends)
+                self.assertEqual(set(told), {window for rows in MAPS[kinds] for line in windows_in(rows, ends)
+                                             for window in line})
+                self.assertEqual(len(told), len(set(told)))
+                if ends == ("open", "open"):
+                    self.assertEqual(len(told), many)
 
 
 class HeldAgainstAllMapsTest(unittest.TestCase):
@@ -136,8 +146,8 @@ class MissingTest(unittest.TestCase):
         self.assertIsNone(missing(Book(2, [Rule(None, ANYWHERE, ("a", 0))], [None, None])))
 
     def test_fewest_rows_decide(self):
-        beside = [Rule(None, with_condition(7, ("beyond",)), ("a", 0)), Rule(None, with_condition(3, ("beyond",)), ("a", 0))]
-        above = [Rule(None, with_condition(1, ("beyond",)), ("a", 0)), Rule(None, with_condition(5, ("beyond",)), ("a", 0))]
+        beside = [Rule(None, with_condition(place, ("beyond",)), ("a", 0)) for place in (7, 3)]
+        above = [Rule(None, with_condition(place, ("beyond",)), ("a", 0)) for place in (1, 5)]
         self.assertEqual(missing(Book(2, beside, [None, None])), ((0, 0, 0),))
         self.assertEqual(missing(Book(2, above, [None, None])), ((0,), (0,), (0,)))
         self.assertEqual(missing(Book(2, beside + above, [None, None])), ((0, 0, 0),) * 3)
@@ -187,12 +197,12 @@ class PicturesTest(unittest.TestCase):
 class UnusedTest(unittest.TestCase):
     def test_rules_hidden_by_earlier_ones(self):
         hidden = Rule(0, with_condition(2, ("same",)), ("b", 0))
-        book = Book(2, [Rule(0, ANYWHERE, ("a", 0)), hidden, Rule(None, ANYWHERE, ("c", 0)), Rule(1, ANYWHERE, ("d", 0))],
-                    [("e", 0), ("f", 0)])
+        rules = [Rule(0, ANYWHERE, ("a", 0)), hidden, Rule(None, ANYWHERE, ("c", 0)), Rule(1, ANYWHERE, ("d", 0))]
+        book = Book(2, rules, [("e", 0), ("f", 0)])
         self.assertEqual(unused_rules(book), (1, 3))
         self.assertEqual(unused_lasts(book), (0, 1))
-        together = Book(1, [Rule(0, with_condition(0, ("beyond",)), ("a", 0)), Rule(0, with_condition(0, (0,)), ("a", 0)),
-                            Rule(None, ANYWHERE, ("a", 0))], [("a", 0)])
+        halves = [Rule(0, with_condition(0, (thing,)), ("a", 0)) for thing in ("beyond", 0)]
+        together = Book(1, [*halves, Rule(None, ANYWHERE, ("a", 0))], [("a", 0)])
         self.assertEqual(unused_rules(together), (2,))
         self.assertEqual(unused_lasts(together), (0,))
 

@@ -1,5 +1,6 @@
 """Promise [12]: sides that meet, held against all maps up to three rows and four columns, or four and three."""
 
+import itertools
 import unittest
 
 from cellpictures.books import Book
@@ -8,16 +9,12 @@ from cellpictures.questions import pictures
 from cellpictures.rules import Rule
 from cellpictures.sides import classes, misfit, tie_map, ties
 from tests.all_maps import SEAMS, Drawer, maps_of, pair_books, seams_in, wires
-from tests.helping import (ALL_ENDS, BROUGHT, GREAT, Picker, Wrong, bad_books, bad_ends, expect_error, expect_refusals,
-                           made_books, some_book, some_rule, things)
+from tests.helping import (ALL_ENDS, BROUGHT, GREAT, Picker, Wrong, bad_books, bad_ends, bad_signs, expect_error,
+                           expect_refusals, made_books, some_book, some_rule, things, with_condition, with_sign)
 
 ANYWHERE = ((),) * 8
 MAPS = {kinds: list(maps_of(kinds, SEAMS)) for kinds in (1, 2)}
 OPEN, ROUND = ("open", "open"), ("wrap", "wrap")
-
-
-def with_condition(place, condition):
-    return [condition if place == number else () for number in range(8)]
 
 
 def small_books(many, seed):
@@ -68,10 +65,6 @@ def signs_by_classes(told):
     return {name: tuple(four) for name, four in signs.items()}
 
 
-def with_sign(signs, name, side, sign):
-    return {**signs, name: signs[name][:side] + (sign,) + signs[name][side + 1:]}
-
-
 class HeldAgainstAllMapsTest(unittest.TestCase):
     def check(self, book, ends, picker):
         seams = seams_of_all_maps(book, ends)
@@ -90,7 +83,7 @@ class HeldAgainstAllMapsTest(unittest.TestCase):
             self.assertEqual(tie_map(book, one, second, ends=ends), found[one, second])
             self.assertEqual(tie_map(book, second, one, ends=ends), found[one, second])
         sides = [(name, side) for name in names for side in range(4)]
-        never = [(one, second) for one in sides for second in sides if (min(one, second), max(one, second)) not in found]
+        never = [pair for pair in itertools.product(sides, sides) if tuple(sorted(pair)) not in found]
         for one, second in never[:2]:
             self.assertIsNone(tie_map(book, one, second, ends=ends))
 
@@ -294,20 +287,6 @@ def bad_sides():
         ["a", 0], ("a",), ("a", 0, 0), (0, "a"), (None, 0), (("a",), 0), (["a"], 0), "a0", {"a": 0}, (some_rule(), 0),
         (("a", 0),), [("a", 0)], ("a", [0]),
     ]
-
-
-def bad_signs():
-    """No signs, each with the name that is told of them."""
-    told = [(thing, None) for thing in things() if type(thing) is not dict]
-    four = ("", "a", "b", "c")
-    told += [([("a", four)], None), (("a", four), None), (some_book(), None)]
-    for key in (None, 0, True, (), ("a",), (0, None)):
-        told += [({key: four}, None), ({"a": four, key: four}, None), ({key: four, "a": ()}, None)]
-    for thing in [thing for thing in things() if not (type(thing) is tuple and len(thing) == 4)] + [
-            ("a",) * 3, ("a",) * 5, ["a"] * 4, ("a", "b", "c", None), (0, 1, 2, 3), ("a", "b", "c", 0), "abcd",
-            ("a", True, "b", "c"), (("a",),) * 4, ({}, "a", "b", "c"), {"a": 0, "b": 1, "c": 2, "d": 3}, (None,) * 4]:
-        told += [({"a": thing}, "a"), ({"b": thing, "a": four}, "b"), ({"c": four[:3], "b": thing, "d": None}, "b")]
-    return told
 
 
 class ArgumentsTest(unittest.TestCase):

@@ -8,19 +8,16 @@ from cellpictures.errors import InvalidBook, InvalidEnds, InvalidNumber, Invalid
 from cellpictures.maps import turned_ends, turned_map
 from cellpictures.questions import frames, kept_ways, matters, unframed, unkept
 from cellpictures.rules import Rule
-from tests.all_maps import OPEN, THREE, Drawer, framed, maps_of, rare_books, turned_drawing, windows_in
+from tests.all_maps import THREE, Drawer, framed, maps_of, rare_books, turned_drawing, windows_in
 from tests.helping import (ALL_ENDS, GREAT, Wrong, bad_books, bad_ends, expect_error, expect_refusals, made_books,
-                           some_book, things_outside, turned)
+                           some_book, things_outside, turned, with_condition)
 
-ANYWHERE = ((),) * 8
+# How far down and right of a cell its places are, and the cell itself.
+STEPS = ((-1, -1), (-1, 0), (-1, 1), (0, 1), (1, 1), (1, 0), (1, -1), (0, -1), (0, 0))
 MAPS = {kinds: list(maps_of(kinds, THREE)) for kinds in (1, 2, 3)}
 ALIKE = (("open", "open"), ("wrap", "wrap"))
 UNLIKE = (("open", "wrap"), ("wrap", "open"))
 ALL_WAYS = tuple(range(8))
-
-
-def with_condition(place, condition):
-    return [condition if place == number else () for number in range(8)]
 
 
 def small_books():
@@ -142,8 +139,7 @@ class MattersTest(unittest.TestCase):
             rows = ((0,) * 5,) * 5
             changed = rows[:2] + ((0, 0, book.kinds - 1, 0, 0),) + rows[3:]
             before, after = draw(book, rows), draw(book, changed)
-            steps = {0: (-1, -1), 1: (-1, 0), 2: (-1, 1), 3: (0, 1), 4: (1, 1), 5: (1, 0), 6: (1, -1), 7: (0, -1), 8: (0, 0)}
-            may = {(2 - steps[place][0], 2 - steps[place][1]) for place in places}
+            may = {(2 - STEPS[place][0], 2 - STEPS[place][1]) for place in places}
             self.assertLessEqual({(r, c) for r in range(5) for c in range(5) if before[r][c] != after[r][c]}, may)
 
 
